@@ -1,0 +1,1 @@
+"""Rows and rings of points that bend one way."""
