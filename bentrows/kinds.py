@@ -1,4 +1,6 @@
-"""The kinds of things that several modules ask about."""
+"""The kinds of things that several modules ask about, and the refusals that they share."""
+
+from bentrows.errors import NoNumber, TooMany
 
 
 def is_whole(thing):
@@ -19,3 +21,13 @@ def are_rising_places(thing, many):
     if not isinstance(thing, tuple) or not all([is_place(place, many) for place in thing]):
         return False
     return all([thing[at] < thing[at + 1] for at in range(len(thing) - 1)])
+
+
+def check_number(thing, least, most):
+    if not is_whole(thing) or not least <= thing <= most:
+        raise NoNumber("this is no whole number of those asked for")
+
+
+def check_few(many, most):
+    if many > most:
+        raise TooMany("there are more points than may be")

@@ -7,11 +7,15 @@ UP = 1
 DOWN = -1
 
 
+def row_bends(turns, row, way):
+    return all([turns[row[at:at + 3]] == way for at in range(len(row) - 2)])
+
+
 def bends(thing, sheet, way):
     turns = all_turns(sheet)
     if not are_rising_places(thing, len(sheet)) or len(thing) < 2:
         return False
-    return all([turns[thing[at:at + 3]] == way for at in range(len(thing) - 2)])
+    return row_bends(turns, thing, way)
 
 
 def is_cup(thing, sheet):

@@ -2,6 +2,7 @@
 
 import random
 from fractions import Fraction
+from functools import lru_cache
 from itertools import combinations
 
 BIG = 10 ** 30 - 1
@@ -20,6 +21,10 @@ THINGS = [
     {0: 1}, {"a": [1]}, [[0, 0]], [()], ((),), ([],), ({},), ("0,0",), (0, 0), [0, 1], (1, 0), (0, "1"), ("0", "1"),
     {(0, 1): "2"}, {(0, 1): None}, {"01": 2}, deep(9), [None, True, "a", (1, [2, {3: 4}])],
 ]
+
+# Of whatever kind, and no number that is asked for with bounds from 2 on.
+NO_NUMBERS = [thing for thing in THINGS if isinstance(thing, bool) or not isinstance(thing, int)]
+NO_NUMBERS += [0, 1, -1, -2, -3, BIG, -BIG, [3], (3,), {3: 3}, "3", "2", "three", [True], (3, 3), ((3,),)]
 
 NO_SHEETS = THINGS + [
     [(0, 0)], ([0, 0],), ((0,),), ((0, 0, 0),), ((True, 0),), ((0, False),), ((0, "0"),), ((0, None),), ((0, (0,)),),
@@ -70,3 +75,44 @@ def all_rows(sheet, up):
             if all(above(sheet, *three) == up for three in combinations(row, 3)):
                 rows.append(row)
     return rows
+
+
+def on_left(p, q, r):
+    return (q[0] - p[0]) * (r[1] - p[1]) > (q[1] - p[1]) * (r[0] - p[0])
+
+
+def lies_inside(sheet, three, place):
+    """Whether the point at the place lies inside the three-sided figure of three others."""
+    p, q, r = [sheet[corner] for corner in three]
+    m = sheet[place]
+    return on_left(p, q, m) == on_left(q, r, m) == on_left(r, p, m)
+
+
+def plain_within(sheet, ring):
+    """The places inside a ring: each lies inside some three of its corners."""
+    others = [place for place in range(len(sheet)) if place not in ring]
+    return [m for m in others if any(lies_inside(sheet, three, m) for three in combinations(ring, 3))]
+
+
+@lru_cache(maxsize=None)
+def all_rings(sheet):
+    """Each rising tuple of three places or more of which none lies inside three others."""
+    places = range(len(sheet))
+    dented = []
+    for three in combinations(places, 3):
+        dented += [{*three, m} for m in places if m not in three and lies_inside(sheet, three, m)]
+    rings = []
+    for many in range(3, len(sheet) + 1):
+        for ring in combinations(places, many):
+            if not any(four <= set(ring) for four in dented):
+                rings.append(ring)
+    return rings
+
+
+# Three corners round all others.
+NESTED = ((-60, -20), (-3, 1), (-2, 7), (0, 3), (1, -4), (4, 5), (5, 90), (70, -31))
+# A cap, and behind it a cup that falls so steeply that no two of its places go on a cup from the first place.
+CAP_THEN_CUP = ((0, 0), (1, 10), (2, 19), (3, 27), (4, 34), (10, -1000), (11, -1990), (12, -2970), (13, -3940),
+                (14, -4900), (15, -5850))
+TWELVE = [made_sheet(12, 40, 5), made_sheet(12, BIG, 6), UP_PARABOLA[:12], DOWN_PARABOLA[:12], CAP_THEN_CUP]
+TEN = [made_sheet(10, 30, 7), made_sheet(9, 30, 8), made_sheet(10, BIG, 9), UP_PARABOLA[:10], DOWN_PARABOLA[:10]]
