@@ -1,6 +1,6 @@
 """The kinds of things that several modules ask about, and the refusals that they share."""
 
-from bentrows.errors import NoNumber, TooMany
+from bentrows.errors import NoNumber, NoPlace, TooMany
 
 
 def is_whole(thing):
@@ -21,6 +21,16 @@ def are_rising_places(thing, many):
     if not isinstance(thing, tuple) or not all([is_place(place, many) for place in thing]):
         return False
     return all([thing[at] < thing[at + 1] for at in range(len(thing) - 1)])
+
+
+def check_place(thing, many):
+    if not is_place(thing, many):
+        raise NoPlace("this is no place of the sheet")
+
+
+def check_whole(thing):
+    if not is_whole(thing):
+        raise NoNumber("this is no whole number")
 
 
 def check_number(thing, least, most):

@@ -52,9 +52,7 @@ def onward_table(turns, many, way):
     return most
 
 
-def longest_row(sheet, way):
-    turns = all_turns(sheet)
-    many = len(sheet)
+def longest_row(turns, many, way):
     if many == 1:
         return None
     onward = onward_table(turns, many, way)
@@ -69,11 +67,11 @@ def longest_row(sheet, way):
 
 
 def longest_cup(sheet):
-    return longest_row(sheet, UP)
+    return longest_row(all_turns(sheet), len(sheet), UP)
 
 
 def longest_cap(sheet):
-    return longest_row(sheet, DOWN)
+    return longest_row(all_turns(sheet), len(sheet), DOWN)
 
 
 def has_paper_form(thing, many):

@@ -1,7 +1,7 @@
 """Sheets: points from left to right, no three on one line, and how each three of them turn."""
 
-from bentrows.errors import Bare, NoNumber, NoPlace, NoSheet, OnLine
-from bentrows.kinds import are_rising_places, is_place, is_point, is_whole
+from bentrows.errors import Bare, NoPlace, NoSheet, OnLine
+from bentrows.kinds import are_rising_places, check_place, check_whole, is_point
 
 MOST_POINTS = 24
 
@@ -25,6 +25,13 @@ def threes(many):
     for i in range(many):
         for j in range(i + 1, many):
             found.extend([(i, j, k) for k in range(j + 1, many)])
+    return found
+
+
+def fours(many):
+    found = []
+    for three in threes(many):
+        found.extend([three + (last,) for last in range(three[2] + 1, many)])
     return found
 
 
@@ -91,15 +98,13 @@ def from_behind(sheet):
 
 def sheared(sheet, by):
     check_sheet(sheet)
-    if not is_whole(by):
-        raise NoNumber("a sheet is sheared by a whole number")
+    check_whole(by)
     return tuple([(point[0], point[1] + by * point[0]) for point in sheet])
 
 
 def without(sheet, place):
     check_sheet(sheet)
-    if not is_place(place, len(sheet)):
-        raise NoPlace("this is no place of the sheet")
+    check_place(place, len(sheet))
     if len(sheet) == 1:
         raise Bare("there is no other point")
     return sheet[:place] + sheet[place + 1:]

@@ -31,6 +31,21 @@ def files():
     return sorted(PACKAGE.glob("*.py"))
 
 
+def plain_value(node, functions):
+    """Whether a value at a file's top is plain: as L3 and L15 tell, with functions defined above among its parts."""
+    if isinstance(node, ast.Name):
+        return node.id in functions
+    if isinstance(node, (ast.List, ast.Tuple)):
+        return all(plain_part(part, functions) for part in node.elts)
+    if isinstance(node, ast.Dict):
+        return all(plain_part(part, functions) for part in node.keys + node.values)
+    return isinstance(ast.literal_eval(node), (int, str, type(None)))
+
+
+def plain_part(node, functions):
+    return not isinstance(node, (ast.List, ast.Dict)) and plain_value(node, functions)
+
+
 def called_name(node):
     if isinstance(node, ast.Call):
         return node.func.id if isinstance(node.func, ast.Name) else getattr(node.func, "attr", "")
@@ -112,13 +127,54 @@ class LanguageTest(unittest.TestCase):
             for node in tree.body[1:]:
                 self.assertIsInstance(node, (ast.ImportFrom, ast.FunctionDef, ast.ClassDef, ast.Assign), name)
                 if isinstance(node, ast.Assign):
-                    ast.literal_eval(node.value)
+                    self.assertNotIsInstance(node.value, ast.Name, name)
+                    above = [part.name for part in tree.body[:tree.body.index(node)] if isinstance(part, ast.FunctionDef)]
+                    self.assertTrue(plain_value(node.value, above), f"{name}:{node.lineno}")
                     names += bound_names(node)
                 elif isinstance(node, ast.ImportFrom):
                     names += [alias.asname or alias.name for alias in node.names]
                 else:
                     names.append(node.name)
             self.assertEqual(len(names), len(set(names)), name)
+
+    def test_tops_are_only_read(self):
+        """L15: a list or dict of a file's top is read by an index, a walk, in, len or get, and not handed on."""
+        for name, tree in self.each_tree():
+            kept = [node.targets[0].id for node in tree.body
+                    if isinstance(node, ast.Assign) and isinstance(node.value, (ast.List, ast.Dict))]
+            fine = []
+            for node in ast.walk(tree):
+                if isinstance(node, ast.Subscript) and isinstance(node.ctx, ast.Load):
+                    fine.append(node.value)
+                elif isinstance(node, ast.Compare):
+                    fine += node.comparators
+                elif isinstance(node, (ast.For, ast.comprehension)):
+                    fine.append(node.iter)
+                elif isinstance(node, ast.Call) and called_name(node) in ("len", "list", "dict", "sorted"):
+                    fine += node.args
+                elif isinstance(node, ast.Attribute) and node.attr == "get":
+                    fine.append(node.value)
+            for node in ast.walk(tree):
+                if isinstance(node, ast.Name) and isinstance(node.ctx, ast.Load) and node.id in kept:
+                    self.assertIn(node, fine, f"{name}:{node.lineno}")
+
+    def test_methods_and_values(self):
+        """L18, L26: no name is a method and a value, and values are given to self alone."""
+        values = []
+        methods = []
+        for name, tree in self.each_tree():
+            for owner in [node for node in tree.body if isinstance(node, ast.ClassDef)]:
+                names = [part.name for part in owner.body if isinstance(part, ast.FunctionDef)]
+                self.assertEqual(len(names), len(set(names)), name)
+                methods += names
+            for node in ast.walk(tree):
+                if isinstance(node, ast.Attribute) and isinstance(node.ctx, ast.Store):
+                    self.assertEqual(getattr(node.value, "id", ""), "self", f"{name}:{node.lineno}")
+                    values.append(node.attr)
+        self.assertEqual(set(values) & set(methods), set())
+        own = [dir(kind) for kind in (str, int, list, dict, set, bytes, tuple)]
+        for given in values + [method for method in methods if method not in DUNDERS]:
+            self.assertNotIn(given, sum(own, []))
 
     def test_functions(self):
         """L4, L10, L21: plain parameters, no decorator, no annotation, at most 40 lines."""
